@@ -1,6 +1,10 @@
-"""What several tests need: webs written shortly, webs by chance from a seed, all plans of a web."""
+"""What several tests need: webs written shortly, webs by chance from a seed, all plans of a web, full knots."""
 
+import itertools
 import random
+
+from swapward.knots import Group, Single
+from swapward.plans import mates_of
 
 TWENTY = list("abcdefghijklmnopqrst")
 GREATEST = 10 ** 12
@@ -20,6 +24,48 @@ def web_with(couples, swaps):
         web[one][other] = worth
         web[other][one] = worth
     return web
+
+
+def plain_web(couples, swaps):
+    return web_with(couples, [(one, other, 1) for one, other in swaps])
+
+
+def row_web(couples):
+    return plain_web(couples, zip(couples, couples[1:]))
+
+
+def ring_web(couples):
+    return plain_web(couples, zip(couples, couples[1:] + couples[:1]))
+
+
+def full_web(couples):
+    return plain_web(couples, itertools.combinations(couples, 2))
+
+
+def rings_joined(sizes):
+    """Rings, each joined to the next by a path through a couple of its own."""
+    names = iter(TWENTY)
+    couples = []
+    swaps = []
+    last = None
+    for size in sizes:
+        if last is not None:
+            between = next(names)
+            couples.append(between)
+            swaps.append((last, between))
+            last = between
+        ring = [next(names) for _ in range(size)]
+        couples.extend(ring)
+        swaps.extend(zip(ring, ring[1:] + ring[:1]))
+        if last is not None:
+            swaps.append((last, ring[0]))
+        last = ring[-1]
+    return plain_web(couples, swaps)
+
+
+def star_web(gates, others):
+    """Each of the gates has a swap with each of the others, and there are no more."""
+    return plain_web(gates + others, itertools.product(gates, others))
 
 
 def chance_web(chance, couples, in_ten):
@@ -60,3 +106,76 @@ def all_plans(web):
     for partner in web[first]:
         plans.extend([(first, partner)] + plan for plan in all_plans(rest_without([first, partner])))
     return plans
+
+
+def singles(couples):
+    return [Single(couple) for couple in couples]
+
+
+def ring_of(couples):
+    """A group of singles, in the order told."""
+    return Group(singles(couples), list(zip(couples, couples[1:] + couples[:1])))
+
+
+def all_within(knot):
+    """The knot, and all knots within it."""
+    return [knot] + [deeper for inner in knot.inner() for deeper in all_within(inner)]
+
+
+def all_links(knot):
+    """The links of a knot and of all knots within it, as swaps."""
+    if isinstance(knot, Single):
+        return []
+    return [swap(*link) for link in knot.links] + [link for inner in knot.inner() for link in all_links(inner)]
+
+
+def bases_by_the_document(knot, plan):
+    """The members that no member serves, if the knot is full as point 32 tells; else None."""
+    members = knot.members()
+    mates = mates_of(plan)
+    left_over = [couple for couple in members if mates.get(couple) not in members]
+    if isinstance(knot, Single):
+        return left_over
+    if len(left_over) != 1 or any(bases_by_the_document(inner, plan) is None for inner in knot.ring):
+        return None
+    place = [left_over[0] in inner.members() for inner in knot.ring].index(True)
+    links = knot.links[place:] + knot.links[:place]
+    if [swap(*link) in plan for link in links] != [number % 2 == 1 for number in range(len(links))]:
+        return None
+    return left_over
+
+
+def sizes_by_chance(chance, couples, knots):
+    """As many odd numbers as there are knots, which come to the number of couples."""
+    sizes = [1] * knots
+    for _ in range((couples - knots) // 2):
+        sizes[chance.randrange(knots)] += 2
+    return sizes
+
+
+def full_knot(chance, couples):
+    """A full knot of an odd number of couples, with the swaps of the plan within it and its base."""
+    if len(couples) == 1:
+        return Single(couples[0]), [], couples[0]
+    knots = chance.randrange(3, len(couples) + 1, 2)
+    left = list(couples)
+    ring = []
+    swaps = []
+    bases = []
+    for size in sizes_by_chance(chance, len(couples), knots):
+        knot, inner_swaps, base = full_knot(chance, left[:size])
+        left = left[size:]
+        ring.append(knot)
+        swaps.extend(inner_swaps)
+        bases.append(base)
+    first = chance.randrange(knots)
+    links = [None] * knots
+    for number in range(knots):
+        here = (first + number) % knots
+        beyond = (here + 1) % knots
+        if number % 2 == 1:
+            links[here] = (bases[here], bases[beyond])
+            swaps.append(swap(*links[here]))
+        else:
+            links[here] = (chance.choice(ring[here].members()), chance.choice(ring[beyond].members()))
+    return Group(ring, links), swaps, bases[first]

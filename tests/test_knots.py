@@ -1,17 +1,8 @@
 import unittest
 
-from helper import TWENTY, seeded, swap
+from helper import TWENTY, all_links, all_within, bases_by_the_document, full_knot, ring_of, seeded, singles, swap
 from swapward.knots import Group, Knot, Single
 from swapward.plans import mates_of
-
-
-def singles(couples):
-    return [Single(couple) for couple in couples]
-
-
-def ring_of(couples):
-    """A group of singles, in the order told."""
-    return Group(singles(couples), list(zip(couples, couples[1:] + couples[:1])))
 
 
 def wrapped(knot, couple, one, other, first):
@@ -20,65 +11,6 @@ def wrapped(knot, couple, one, other, first):
     around = around[first:] + around[:first]
     couples = [linked for _, linked in around]
     return Group([inner for inner, _ in around], list(zip(couples, couples[1:] + couples[:1])))
-
-
-def all_links(knot):
-    """The links of a knot and of all knots within it, as swaps."""
-    if isinstance(knot, Single):
-        return []
-    return [swap(*link) for link in knot.links] + [link for inner in knot.inner() for link in all_links(inner)]
-
-
-def bases_by_the_document(knot, plan):
-    """The members that no member serves, if the knot is full as point 32 tells; else None."""
-    members = knot.members()
-    mates = mates_of(plan)
-    left_over = [couple for couple in members if mates.get(couple) not in members]
-    if isinstance(knot, Single):
-        return left_over
-    if len(left_over) != 1 or any(bases_by_the_document(inner, plan) is None for inner in knot.ring):
-        return None
-    place = [left_over[0] in inner.members() for inner in knot.ring].index(True)
-    links = knot.links[place:] + knot.links[:place]
-    if [swap(*link) in plan for link in links] != [number % 2 == 1 for number in range(len(links))]:
-        return None
-    return left_over
-
-
-def sizes_by_chance(chance, couples, knots):
-    """As many odd numbers as there are knots, which come to the number of couples."""
-    sizes = [1] * knots
-    for _ in range((couples - knots) // 2):
-        sizes[chance.randrange(knots)] += 2
-    return sizes
-
-
-def full_knot(chance, couples):
-    """A full knot of an odd number of couples, with the swaps of the plan within it and its base."""
-    if len(couples) == 1:
-        return Single(couples[0]), [], couples[0]
-    knots = chance.randrange(3, len(couples) + 1, 2)
-    left = list(couples)
-    ring = []
-    swaps = []
-    bases = []
-    for size in sizes_by_chance(chance, len(couples), knots):
-        knot, inner_swaps, base = full_knot(chance, left[:size])
-        left = left[size:]
-        ring.append(knot)
-        swaps.extend(inner_swaps)
-        bases.append(base)
-    first = chance.randrange(knots)
-    links = [None] * knots
-    for number in range(knots):
-        here = (first + number) % knots
-        beyond = (here + 1) % knots
-        if number % 2 == 1:
-            links[here] = (bases[here], bases[beyond])
-            swaps.append(swap(*links[here]))
-        else:
-            links[here] = (chance.choice(ring[here].members()), chance.choice(ring[beyond].members()))
-    return Group(ring, links), swaps, bases[first]
 
 
 def full_knots(seed, how_many):
@@ -92,11 +24,6 @@ def plan_outside(chance, swaps, base):
     """The swaps of a knot with swaps outside, perhaps one that serves the base."""
     outside = chance.choice([[], [swap(base, "x")], [swap(base, "aa")], [("aa", "x")], [swap(base, "x"), ("aa", "zz")]])
     return sorted(swaps + outside)
-
-
-def all_within(knot):
-    """The knot, and all knots within it."""
-    return [knot] + [deeper for inner in knot.inner() for deeper in all_within(inner)]
 
 
 class Case(unittest.TestCase):
