@@ -23,15 +23,19 @@ def all_open(web):
     return open_to
 
 
+def search_from(web, plan, roots):
+    # Over all swaps of the web, each couple a knot by itself.
+    knots = [Single(couple) for couple in sorted(web)]
+    return seek(mates_of(plan), knots, all_open(web), roots)
+
+
 def last_search(web):
     # A plan with the most swaps, and the search from all its unserved couples, which finds no longer row.
-    knots = [Single(couple) for couple in sorted(web)]
-    open_to = all_open(web)
     plan = []
-    outcome = seek({}, knots, open_to, unserved(web, plan))
+    outcome = search_from(web, plan, unserved(web, plan))
     while outcome.found() is not None:
         plan = turned(plan, (ROW, outcome.found()))
-        outcome = seek(mates_of(plan), knots, open_to, unserved(web, plan))
+        outcome = search_from(web, plan, unserved(web, plan))
     return (plan, outcome)
 
 

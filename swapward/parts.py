@@ -7,6 +7,7 @@ from swapward.plans import mates_of
 
 ROW = "row"
 RING = "ring"
+NONE = "none"
 
 
 def mates_alone(plan, against):

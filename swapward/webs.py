@@ -30,6 +30,13 @@ def web_of(couples, rule):
     return web
 
 
+def all_swaps(web):
+    swaps = []
+    for one in sorted(web):
+        swaps.extend([(one, other) for other in sorted(web[one]) if one < other])
+    return swaps
+
+
 def partners_without(partners, names):
     kept = {}
     for partner in partners:

@@ -10,6 +10,7 @@ from swapward.most import unserved
 from swapward.parts import ROW, turned
 from swapward.plans import is_plan, mates_of, worth_of
 from swapward.search import seek
+from swapward.webs import all_swaps
 
 MOST_COUPLES = 16
 LEAST_GROUP = 3
@@ -18,10 +19,8 @@ LEAST_GROUP = 3
 def dues_of(web):
     # What is to be paid for each swap: its worth in halves.
     dues = {}
-    for one in sorted(web):
-        for other in sorted(web[one]):
-            if one < other:
-                dues[(one, other)] = 2 * web[one][other]
+    for one, other in all_swaps(web):
+        dues[(one, other)] = 2 * web[one][other]
     return dues
 
 

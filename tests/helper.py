@@ -108,6 +108,48 @@ def all_plans(web):
     return plans
 
 
+def fullest_plans(web):
+    """Every plan with the most swaps."""
+    plans = all_plans(web)
+    greatest = max(len(plan) for plan in plans)
+    return [plan for plan in plans if len(plan) == greatest]
+
+
+def best_set(web, order):
+    """The best set of point 71, rising, by the plans of the web one and all."""
+    sets = [set(itertools.chain.from_iterable(plan)) for plan in all_plans(web)]
+    best = set()
+    for couple in order:
+        if any(best | {couple} <= couples for couples in sets):
+            best.add(couple)
+    return sorted(best)
+
+
+def odd_groups_by_hand(web, out):
+    """The odd groups of point 5: couples are put together until no swap leads out."""
+    groups = [{couple} for couple in web if couple not in out]
+    for one in web:
+        for other in web[one]:
+            joined = [group for group in groups if one in group or other in group]
+            if len(joined) == 2 and one not in out and other not in out:
+                groups = [group for group in groups if group not in joined] + [joined[0] | joined[1]]
+    return [group for group in groups if len(group) % 2 == 1]
+
+
+def shows_why(web, order, plan, couple, out):
+    """Whether a list is one of point 73 for a couple, by counting."""
+    ahead = set(order[:order.index(couple)]) & set(itertools.chain.from_iterable(plan))
+    groups = [group for group in odd_groups_by_hand(web, out) if group <= ahead | {couple}]
+    return len(groups) > len(out)
+
+
+def along(part):
+    """The swaps along a part, in their order."""
+    kind, couples = part
+    swaps = [swap(one, other) for one, other in zip(couples, couples[1:])]
+    return swaps + [swap(couples[-1], couples[0])] if kind == "ring" else swaps
+
+
 def singles(couples):
     return [Single(couple) for couple in couples]
 

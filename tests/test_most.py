@@ -2,21 +2,10 @@ import copy
 import itertools
 import unittest
 
-from helper import (GREATEST, TWENTY, all_plans, chance_web, chance_webs, full_web, other_entry_orders, plain_web,
-                    ring_web, rings_joined, row_web, seeded, star_web, web_with)
+from helper import (GREATEST, TWENTY, all_plans, chance_web, chance_webs, full_web, odd_groups_by_hand,
+                    other_entry_orders, plain_web, ring_web, rings_joined, row_web, seeded, star_web, web_with)
 from swapward.most import is_most, most, paper
 from swapward.plans import is_plan
-
-
-def odd_groups_by_hand(web, out):
-    """How many groups of point 5 are odd: couples are put together until no swap leads out."""
-    groups = [{couple} for couple in web if couple not in out]
-    for one in web:
-        for other in web[one]:
-            joined = [group for group in groups if one in group or other in group]
-            if len(joined) == 2 and one not in out and other not in out:
-                groups = [group for group in groups if group not in joined] + [joined[0] | joined[1]]
-    return sum(len(group) % 2 for group in groups)
 
 
 def greatest_number(web):
@@ -33,7 +22,7 @@ class Case(unittest.TestCase):
         self.assertIs(type(out), list)
         self.assertEqual(out, sorted(set(out)))
         self.assertTrue(set(out) <= set(web))
-        self.assertEqual(len(web) - 2 * len(plan), odd_groups_by_hand(web, out) - len(out))
+        self.assertEqual(len(web) - 2 * len(plan), len(odd_groups_by_hand(web, out)) - len(out))
         self.assertIs(is_most(web, plan, out), True)
         return plan, out
 
@@ -174,7 +163,7 @@ class IsMost(Case):
         self.assertIs(is_most(web, [("b", "c")], ["b"]), True)
         ring = ring_web(["a", "b", "c", "d"])
         for out in ([], ["a", "c"], ["b", "d"], ["a"], ["a", "b", "c"]):
-            expected = odd_groups_by_hand(ring, out) - len(out) == 0
+            expected = len(odd_groups_by_hand(ring, out)) - len(out) == 0
             self.assertIs(is_most(ring, [("a", "b"), ("c", "d")], out), expected)
 
     def test_no_couples(self):
@@ -231,7 +220,7 @@ class IsMost(Case):
                 shown = []
                 for many in range(len(web) + 1):
                     for out in itertools.combinations(sorted(web), many):
-                        expected = len(web) - 2 * len(plan) == odd_groups_by_hand(web, out) - len(out)
+                        expected = len(web) - 2 * len(plan) == len(odd_groups_by_hand(web, out)) - len(out)
                         answer = is_most(web, plan, list(reversed(out)))
                         self.assertIs(answer, expected)
                         shown.append(answer)

@@ -1,18 +1,11 @@
 import itertools
 import unittest
 
-from helper import TWENTY, all_plans, chance_webs, seeded, swap
+from helper import TWENTY, all_plans, along, chance_webs, seeded, swap
 from swapward.parts import parts, turned
 from swapward.plans import is_plan, served
 
 NONE = ("none", [])
-
-
-def along(part):
-    """The swaps along a part, in their order."""
-    kind, couples = part
-    swaps = [swap(one, other) for one, other in zip(couples, couples[1:])]
-    return swaps + [swap(couples[-1], couples[0])] if kind == "ring" else swaps
 
 
 def in_turn(answers):

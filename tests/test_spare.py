@@ -2,19 +2,13 @@ import copy
 import itertools
 import unittest
 
-from helper import (GREATEST, TWENTY, all_plans, chance_webs, full_web, other_entry_orders, plain_web, ring_web,
+from helper import (GREATEST, TWENTY, chance_webs, fullest_plans, full_web, other_entry_orders, plain_web, ring_web,
                     rings_joined, row_web, seeded, star_web, web_with)
 from swapward.errors import NoCouple, SwapError
 from swapward.most import is_most, most, paper
 from swapward.plans import is_plan, mates_of, served
 from swapward.spare import left, spare
 from swapward.webs import groups_of
-
-
-def fullest_plans(web):
-    plans = all_plans(web)
-    greatest = max(len(plan) for plan in plans)
-    return [plan for plan in plans if len(plan) == greatest]
 
 
 def spare_by_hand(web, fullest):
